@@ -1,0 +1,1 @@
+"""Greyhall: memory that is swept while it is used."""
