@@ -21,14 +21,18 @@ class Thing:
         return self.place + self.words()
 
 
-def things_found(start):
-    found = list(start)
+def find_things(values, found):
+    for value in values:
+        if isinstance(value, Thing) and value not in found:
+            found.append(value)
+
+
+def things_found(values):
+    found = []
+    find_things(values, found)
     at = 0
     while at < len(found):
-        fields = found[at].fields
-        for value in fields:
-            if isinstance(value, Thing) and value not in found:
-                found.append(value)
+        find_things(found[at].fields, found)
         at += 1
     return found
 

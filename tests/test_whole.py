@@ -3,18 +3,24 @@
 import random
 import unittest
 
-from greyhall.errors import HallError, NoField, NoRoom, NoThing
-from helper import HANDS, new_hall
+from greyhall.checking import is_sound
+from greyhall.errors import NoField, NoRoom, NoThing, NotNow
+from greyhall.halls import Hall
+from greyhall.walking import come_to
+from helper import HANDS, check_refused
 
 
 class EndlessThing:
     def __init__(self, many):
         self.fields = [0] * many
-        self.real = None
+        self.place = None
+
+    def words(self):
+        return 2 + len(self.fields)
 
 
 class EndlessHall:
-    """Nothing is ever taken away or moved; things are known by the objects of the hall under test."""
+    """Nothing is ever taken away or moved; a thing's place is where it is to lie in the hall under test."""
 
     def __init__(self):
         self.hands = [0] * 8
@@ -35,6 +41,10 @@ class EndlessHall:
                 waiting.extend(thing.fields)
         return found
 
+    def value(self, hand):
+        value = self.hands[hand]
+        return ("thing", len(value.fields)) if isinstance(value, EndlessThing) else ("number", value)
+
     def shape(self, hand):
         found = self.found([self.hands[hand]])
 
@@ -43,169 +53,198 @@ class EndlessHall:
 
         return tuple(tuple(map(told, thing.fields)) for thing in found) or ("number", self.hands[hand])
 
+    def alike(self, hand, other):
+        return isinstance(self.hands[hand], EndlessThing) and self.hands[hand] is self.hands[other]
+
     def reached(self):
-        return [thing.real for thing in self.found(self.hands)]
+        return self.found(self.hands)
 
 
 def words(things):
-    return sum(2 + len(thing.fields) for thing in things)
+    return sum(thing.words() for thing in things)
 
 
 class Run:
+    """Which thing lies where is kept in `lying`, by places, and compared with the blocks behind every act."""
+
     def __init__(self, case, seed, size):
         self.case = case
         self.choice = random.Random(seed)
         self.size = size
-        self.memory, self.sweeper = new_hall(size)
+        self.hall = Hall(size)
         self.endless = EndlessHall()
+        self.lying = []
         self.doomed = []
-        self.newborn = []
-        self.seen = {"refused": 0, "room made": 0, "ended": 0}
+        self.parts_done = 0
+        self.parts_due = 0
+        self.seen = {"refused": 0, "room made": 0, "ended": 0, "taken away": 0, "slid": 0}
 
     def hand(self):
         return self.choice.randrange(8)
 
+    def idle(self):
+        return self.hall.phase() == "idle"
+
     def number(self):
         hand, n = self.hand(), self.choice.randrange(-9, 10)
-        self.memory.number(hand, n)
+        self.hall.number(hand, n)
         self.endless.hands[hand] = n
 
     def copy(self):
         hand, other = self.hand(), self.hand()
-        self.memory.copy(hand, other)
+        self.hall.copy(hand, other)
         self.endless.hands[hand] = self.endless.hands[other]
-
-    def attempt(self, refusal, call, *handed):
-        if refusal is None:
-            call(*handed)
-            return True
-        self.case.assertRaises(refusal, call, *handed)
-        return False
 
     def load(self):
         hand, other, field = self.hand(), self.hand(), self.choice.randrange(-1, 6)
-        if self.attempt(self.endless.refusal(other, field), self.memory.load, hand, other, field):
-            self.endless.hands[hand] = self.endless.hands[other].fields[field]
+        refusal = self.endless.refusal(other, field)
+        if refusal is not None:
+            check_refused(self.case, refusal, self.hall, self.hall.load, hand, other, field)
+            return
+        self.hall.load(hand, other, field)
+        self.endless.hands[hand] = self.endless.hands[other].fields[field]
 
     def store(self):
         hand, other, field = self.hand(), self.hand(), self.choice.randrange(-1, 6)
-        if self.attempt(self.endless.refusal(hand, field), self.sweeper.store, hand, field, other):
-            self.endless.hands[hand].fields[field] = self.endless.hands[other]
+        refusal = self.endless.refusal(hand, field)
+        if refusal is not None:
+            check_refused(self.case, refusal, self.hall, self.hall.store, hand, field, other)
+            return
+        self.hall.store(hand, field, other)
+        self.endless.hands[hand].fields[field] = self.endless.hands[other]
 
     def make(self):
-        hand, many = self.hand(), self.choice.randrange(7)
-        gaps = [place for place, wide, used in self.memory.blocks() if not used and wide >= 2 + many]
-        order = list(self.memory.things)
-        reached = self.endless.reached()
-        try:
-            self.sweeper.make(hand, many)
-        except NoRoom:
-            self.seen["refused"] += 1
-            self.case.assertGreater(words(reached) + 2 + many, self.size)
-            self.check_room_made(order, reached)
-            return
-        thing = EndlessThing(many)
-        thing.real = self.memory.held(hand)
+        hand, thing = self.hand(), EndlessThing(self.choice.randrange(7))
+        gaps = [place for place, wide, used in self.hall.blocks() if not used and wide >= thing.words()]
         if gaps:
-            self.case.assertEqual(self.memory.place_of(hand), gaps[0])
-            if self.sweeper.phase() != "idle":
-                self.newborn.append(thing.real)
+            self.make_in_gap(hand, thing, gaps[0])
+        else:
+            self.make_behind_all(hand, thing)
+
+    def make_in_gap(self, hand, thing, place):
+        phase, finger = self.hall.phase(), self.hall.finger()
+        self.hall.make(hand, len(thing.fields))
+        self.case.assertEqual((self.hall.phase(), self.hall.finger()), (phase, finger))
+        if phase == "mark" or phase == "sweep" and place >= finger:
+            self.parts_due += 1
+        self.lay(hand, thing, place)
+
+    def make_behind_all(self, hand, thing):
+        reached = self.endless.reached()
+        self.lying = [kept for kept in self.lying if kept in reached]
+        self.doomed = []
+        self.slide_together()
+        if words(reached) + thing.words() > self.size:
+            self.seen["refused"] += 1
+            self.case.assertRaises(NoRoom, self.hall.make, hand, len(thing.fields))
         else:
             self.seen["room made"] += 1
-            self.case.assertEqual(self.memory.place_of(hand), words(reached))
-            self.check_room_made(order, reached, thing.real)
+            self.hall.make(hand, len(thing.fields))
+            self.lay(hand, thing, words(reached))
+        self.case.assertTrue(self.idle())
+
+    def lay(self, hand, thing, place):
+        thing.place = place
+        self.lying.append(thing)
+        self.lying.sort(key=lambda lying: lying.place)
         self.endless.hands[hand] = thing
 
-    def check_room_made(self, order, reached, *last):
-        left = [thing for thing in order if thing in reached]
-        self.case.assertEqual(self.memory.things, left + list(last))
-        self.case.assertEqual(sum(used for _, _, used in self.memory.blocks()), len(left) + len(last))
-        self.check_no_gap()
-        self.case.assertEqual(self.sweeper.phase(), "idle")
-        self.doomed = []
-        self.newborn = []
-
-    def check_no_gap(self):
-        free = [block for block in self.memory.blocks() if not block[2]]
-        self.case.assertLessEqual(len(free), 1)
-        self.case.assertTrue(all(place + wide == self.size for place, wide, _ in free))
+    def slide_together(self):
+        at = 0
+        for thing in self.lying:
+            thing.place = at
+            at += thing.words()
 
     def begin(self):
-        if self.sweeper.phase() != "idle":
-            self.case.assertRaises(HallError, self.sweeper.begin)
+        if not self.idle():
+            check_refused(self.case, NotNow, self.hall, self.hall.begin)
             return
         reached = self.endless.reached()
-        self.doomed = [thing for thing in self.memory.things if thing not in reached]
-        self.newborn = []
-        self.sweeper.begin()
-        self.look_for_end()
-
-    def look_for_end(self):
-        if self.sweeper.phase() == "idle":
-            self.seen["ended"] += 1
-            for thing in self.doomed:
-                self.case.assertNotIn(thing, self.memory.things)
-            for thing in self.newborn:
-                self.case.assertIn(thing, self.memory.things)
-            self.doomed = []
-            self.newborn = []
+        self.doomed = [thing for thing in self.lying if thing not in reached]
+        self.parts_done = 0
+        self.parts_due = len(reached) + len(self.lying)
+        self.hall.begin()
+        self.case.assertEqual(self.idle(), self.lying == [])
 
     def step(self):
-        if self.sweeper.phase() != "idle":
-            n = self.choice.randrange(4)
-            done = self.sweeper.step(n)
-            self.case.assertTrue(done == n or done < n and self.sweeper.phase() == "idle")
-            self.look_for_end()
+        n = self.choice.randrange(4)
+        going_on = not self.idle()
+        done = self.hall.step(n)
+        self.case.assertTrue(done == n or done < n and self.idle())
+        self.look_at_work(going_on, done)
 
     def finish(self):
-        if self.sweeper.phase() != "idle":
-            most = 2 * len(self.memory.things)
-            self.case.assertLessEqual(self.sweeper.finish(), most)
-            self.look_for_end()
+        going_on = not self.idle()
+        done = self.hall.finish()
+        self.case.assertTrue(self.idle())
+        self.look_at_work(going_on, done)
+
+    def look_at_work(self, going_on, done):
+        places = [place for place, _, used in self.hall.blocks() if used]
+        gone = [thing for thing in self.lying if thing.place not in places]
+        self.lying = [thing for thing in self.lying if thing.place in places]
+        for thing in gone:
+            self.seen["taken away"] += 1
+            self.doomed.remove(thing)
+        self.parts_done += done
+        if not going_on:
+            self.case.assertEqual(done, 0)
+        elif self.idle():
+            self.seen["ended"] += 1
+            self.case.assertEqual(self.doomed, [])
+            self.case.assertEqual(self.parts_done, self.parts_due)
+        else:
+            self.case.assertLess(self.parts_done, self.parts_due)
 
     def slide(self):
-        if self.sweeper.phase() != "idle":
-            self.case.assertRaises(HallError, self.sweeper.slide)
+        if not self.idle():
+            check_refused(self.case, NotNow, self.hall, self.hall.slide)
             return
-        order = list(self.memory.things)
-        self.sweeper.slide()
-        self.case.assertEqual(self.memory.things, order)
-        self.check_no_gap()
+        self.seen["slid"] += 1
+        self.slide_together()
+        self.hall.slide()
 
     def check(self):
         for hand in HANDS:
-            self.case.assertEqual(self.memory.shape_of(hand), self.endless.shape(hand))
+            self.case.assertEqual(self.hall.value_of(hand), self.endless.value(hand))
+            self.case.assertEqual(self.hall.shape_of(hand), self.endless.shape(hand))
             for other in HANDS:
-                mine, others = self.endless.hands[hand], self.endless.hands[other]
-                same = isinstance(mine, EndlessThing) and mine is others
-                self.case.assertIs(self.memory.alike(hand, other), same)
-        for thing in self.endless.reached():
-            self.case.assertIn(thing, self.memory.things)
+                self.case.assertIs(self.hall.alike(hand, other), self.endless.alike(hand, other))
+            if isinstance(self.endless.hands[hand], EndlessThing):
+                self.case.assertEqual(self.hall.place_of(hand), self.endless.hands[hand].place)
+        reached = self.endless.reached()
+        self.case.assertEqual(come_to(self.hall), tuple(sorted(thing.place for thing in reached)))
+        self.case.assertTrue(all(thing in self.lying for thing in reached))
         self.check_blocks()
         self.check_colours()
 
     def check_blocks(self):
+        blocks = self.hall.blocks()
+        self.case.assertIs(is_sound(blocks, self.size), True)
         at = 0
         before = 1
-        for place, wide, used in self.memory.blocks():
+        for place, wide, used in blocks:
             self.case.assertEqual(place, at)
             self.case.assertIn(wide, range(2, 9) if used else range(1, self.size + 1))
             self.case.assertTrue(used or before)
             before = used
             at += wide
         self.case.assertEqual(at, self.size)
+        things = [(place, wide) for place, wide, used in blocks if used]
+        self.case.assertEqual(things, [(thing.place, thing.words()) for thing in self.lying])
 
     def check_colours(self):
-        phase, colours, finger = self.sweeper.phase(), self.sweeper.colours(), self.sweeper.finger()
-        places = [place for place, _, used in self.memory.blocks() if used]
-        self.case.assertEqual(len(colours), len(places))
+        phase, colours, finger = self.hall.phase(), self.hall.colours(), self.hall.finger()
+        self.case.assertEqual(len(colours), len(self.lying))
         self.case.assertEqual(finger is None, phase != "sweep")
         self.case.assertEqual("grey" in colours, phase == "mark")
         if phase == "idle":
             self.case.assertNotIn("black", colours)
         if phase == "sweep":
-            self.case.assertTrue(any(place >= finger for place in places))
-            self.case.assertTrue(all(c == "white" for p, c in zip(places, colours) if p < finger))
+            self.case.assertTrue(any(thing.place >= finger for thing in self.lying))
+            for thing, colour in zip(self.lying, colours):
+                white = thing.place < finger or thing in self.doomed
+                self.case.assertEqual(colour, "white" if white else "black")
 
     def go(self, turns):
         doings = [self.number, self.copy, self.make, self.make, self.load, self.load, self.store, self.store]
@@ -218,13 +257,14 @@ class Run:
 
 class LongRuns(unittest.TestCase):
     def test_halls_of_many_sizes_hold_what_an_endless_hall_would(self):
-        seen = {"refused": 0, "room made": 0, "ended": 0}
+        seen = {}
         for seed, size in enumerate((4, 5, 7, 10, 16, 20, 30, 30, 40, 40, 60, 60, 100, 200)):
             with self.subTest(seed=seed, size=size):
                 run = Run(self, seed, size)
                 run.go(1500)
-                for what in seen:
-                    seen[what] += run.seen[what]
+                for what in run.seen:
+                    seen[what] = seen.get(what, 0) + run.seen[what]
+        # A run that never came to these would promise nothing of them.
         for what in seen:
             self.assertGreater(seen[what], 50, what)
 
